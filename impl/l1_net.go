@@ -312,13 +312,9 @@ func (r *netReader) readUTurn(fields []string) error {
 }
 
 func (r *netReader) readNumbers(fields []string) ([]int64, error) {
-	numbers := make([]int64, 0, len(fields))
-	for _, field := range fields {
-		number, ok := readNumber(field)
-		if !ok {
-			return nil, r.refuse(ErrNumber)
-		}
-		numbers = append(numbers, number)
+	numbers, ok := readNumbers(fields)
+	if !ok {
+		return nil, r.refuse(ErrNumber)
 	}
 	return numbers, nil
 }
@@ -395,6 +391,19 @@ func readNumber(field string) (int64, bool) {
 		return 0, false
 	}
 	return number, true
+}
+
+// readNumbers answers false if one of the fields is not a number.
+func readNumbers(fields []string) ([]int64, bool) {
+	numbers := make([]int64, 0, len(fields))
+	for _, field := range fields {
+		number, ok := readNumber(field)
+		if !ok {
+			return nil, false
+		}
+		numbers = append(numbers, number)
+	}
+	return numbers, true
 }
 
 func compareWays(a, b Way) int {
